@@ -1,0 +1,1 @@
+"""Deepspot: how deep a spot lies among points of the plane."""
