@@ -23,6 +23,11 @@ def other_side(half):
     return (-half[0], -half[1], -half[2])
 
 
+# How far other goes along the way that one goes, 0 where straight to its left or right; of halves the way they face.
+def along(one, other):
+    return one[0] * other[0] + one[1] * other[1]
+
+
 def as_spot(point):
     return ((point[0], 1), (point[1], 1))
 

@@ -30,6 +30,13 @@ WORDS = (
     "NamedTuple TypedDict TYPE_CHECKING abstractmethod register mro elements open input"
 ).split()
 
+# L25: the methods of Python's own values.
+METHODS = (
+    "append clear copy count endswith extend find get index insert isalnum isalpha isdigit islower isspace isupper "
+    "items join keys ljust lower lstrip partition pop remove replace reverse rfind rjust rpartition rsplit rstrip "
+    "setdefault split splitlines startswith strip update upper values zfill bit_length"
+).split()
+
 
 def files():
     return sorted(name for name in os.listdir(FOLDER) if name != "__pycache__")
@@ -42,6 +49,14 @@ def text_of(name):
 
 def nodes_of(name):
     return list(ast.walk(ast.parse(text_of(name))))
+
+
+def defined_in(name):
+    return [node.name for node in ast.parse(text_of(name)).body if isinstance(node, (ast.FunctionDef, ast.ClassDef))]
+
+
+def drawn_from(name):
+    return {node.module.split(".")[1] + ".py" for node in nodes_of(name) if isinstance(node, ast.ImportFrom)}
 
 
 class Language(unittest.TestCase):
@@ -93,6 +108,57 @@ class Language(unittest.TestCase):
                     self.assertEqual(node.level, 0)
                     self.assertRegex(node.module, r"^deepspot\.[a-z]+$")
                     self.assertIn(node.module.split(".")[1] + ".py", files())
+
+    def test_each_name_is_drawn_from_where_it_is_defined(self):
+        for name in files():
+            for node in nodes_of(name):
+                if isinstance(node, ast.ImportFrom):
+                    for alias in node.names:
+                        self.assertIn(alias.name, defined_in(node.module.split(".")[1] + ".py"))
+
+    def test_no_two_files_draw_from_one_another(self):
+        settled = []
+        while len(settled) < len(files()):
+            ready = [name for name in files() if name not in settled and drawn_from(name) <= set(settled)]
+            self.assertNotEqual(ready, [])
+            settled += ready
+
+    def test_the_top_of_a_file(self):
+        for name in files():
+            body = ast.parse(text_of(name)).body
+            self.assertTrue(isinstance(body[0], ast.Expr) and isinstance(body[0].value.value, str))
+            for node in body[1:]:
+                self.assertIsInstance(node, (ast.ImportFrom, ast.FunctionDef, ast.ClassDef, ast.Assign))
+            self.assertEqual(len(set(defined_in(name))), len(defined_in(name)))
+
+    def test_locals_hide_no_import_and_no_class(self):
+        for name in files():
+            taken = [alias.name for node in nodes_of(name) if isinstance(node, ast.ImportFrom) for alias in node.names]
+            taken += [node.name for node in nodes_of(name) if isinstance(node, ast.ClassDef)]
+            for node in nodes_of(name):
+                if isinstance(node, ast.arg):
+                    self.assertNotIn(node.arg, taken)
+                if isinstance(node, ast.Name) and isinstance(node.ctx, ast.Store):
+                    self.assertNotIn(node.id, taken)
+
+    def test_methods(self):
+        for name in files():
+            for node in nodes_of(name):
+                if isinstance(node, ast.Attribute):
+                    self.assertIn(node.attr, METHODS)
+
+    def test_is_stands_beside_none_and_truths(self):
+        for name in files():
+            for node in nodes_of(name):
+                if isinstance(node, ast.Compare) and isinstance(node.ops[0], (ast.Is, ast.IsNot)):
+                    self.assertIn(node.comparators[0].value, (None, True, False))
+
+    def test_comprehensions(self):
+        for name in files():
+            for node in nodes_of(name):
+                if isinstance(node, ast.ListComp):
+                    self.assertEqual(len(node.generators), 1)
+                    self.assertLessEqual(len(node.generators[0].ifs), 1)
 
 
 if __name__ == "__main__":
